@@ -1,0 +1,1 @@
+"""Twiceslope: which equations y'' = r y have answers in finite terms."""
