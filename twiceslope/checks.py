@@ -13,7 +13,7 @@ def is_tuple_of(thing, many):
     return isinstance(thing, tuple) and len(thing) == many
 
 
-def are_integers(things):
+def all_integers(things):
     """Whether all items of a tuple are integers."""
     return all([is_integer(thing) for thing in things])
 
@@ -25,4 +25,4 @@ def in_lowest_terms(top, bottom):
 
 def is_pole(thing):
     """Whether any value is a pair (top, bottom) as poles are."""
-    return is_tuple_of(thing, 2) and are_integers(thing) and in_lowest_terms(thing[0], thing[1])
+    return is_tuple_of(thing, 2) and all_integers(thing) and in_lowest_terms(thing[0], thing[1])

@@ -89,14 +89,14 @@ def number_product(one, other):
     return product_sum([(one, other)])
 
 
-def is_turned(d, prime):
+def turns(d, prime):
     """Whether the root of d changes its sign when that of a prime, or of -1, does."""
     return d < 0 if prime == SIGN else d % prime == 0
 
 
 def mirrored(number, prime):
     """The number in which the root of a prime, or of -1, is replaced by its negative."""
-    return tuple([(d, -top if is_turned(d, prime) else top, bottom) for d, top, bottom in number])
+    return tuple([(d, -top if turns(d, prime) else top, bottom) for d, top, bottom in number])
 
 
 def prime_within(number):

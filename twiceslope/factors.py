@@ -21,7 +21,7 @@ def square_split(size):
     return (free * size, root)
 
 
-def is_square_free(size):
+def free_of_squares(size):
     """Whether no square above 1 divides an integer from 1 on."""
     return square_split(size)[1] == 1
 

@@ -1,27 +1,27 @@
 """Numbers: sums of fractions times square roots of integers."""
 
-from twiceslope.checks import are_integers, in_lowest_terms, is_tuple_of
+from twiceslope.checks import all_integers, in_lowest_terms, is_tuple_of
 from twiceslope.errors import BadNumber
 from twiceslope.exact import from_fraction, lowest
 from twiceslope.exact import number_difference, number_inverse, number_product, number_sum
-from twiceslope.factors import is_square_free, square_split
+from twiceslope.factors import free_of_squares, square_split
 
 # No right number beyond the limits is asked about. So a d of this size is told to be wrong, which spares the
 # search for squares in integers that are too large for it.
 TOO_LARGE = 10 ** 15
 
 
-def is_root(d):
+def fits_as_d(d):
     """Whether an integer can be the d of a number."""
-    return d != 0 and abs(d) < TOO_LARGE and is_square_free(abs(d))
+    return d != 0 and abs(d) < TOO_LARGE and free_of_squares(abs(d))
 
 
 def is_triple(thing):
     """Whether any value is a triple (d, top, bottom) as numbers have them."""
-    if not (is_tuple_of(thing, 3) and are_integers(thing)):
+    if not (is_tuple_of(thing, 3) and all_integers(thing)):
         return False
     d, top, bottom = thing
-    return top != 0 and in_lowest_terms(top, bottom) and is_root(d)
+    return top != 0 and in_lowest_terms(top, bottom) and fits_as_d(d)
 
 
 def is_number(thing):
@@ -46,7 +46,7 @@ def check_number(thing):
 
 def check_pair(top, bottom):
     """Raise BadNumber for what is no fraction of two integers."""
-    if not are_integers((top, bottom)) or bottom == 0:
+    if not all_integers((top, bottom)) or bottom == 0:
         raise BadNumber((top, bottom))
 
 

@@ -33,7 +33,7 @@ def power(base, exponent):
     return result
 
 
-def is_before(one, other):
+def comes_before(one, other):
     """Whether a pole is less than another one, as fractions."""
     return one[0] * other[1] < other[0] * one[1]
 
@@ -54,7 +54,7 @@ def all_poles(one, other):
     waiting = poles_of(one)
     at = 0
     for pole in poles_of(other):
-        while at < len(waiting) and is_before(waiting[at], pole):
+        while at < len(waiting) and comes_before(waiting[at], pole):
             found.append(waiting[at])
             at += 1
         if at < len(waiting) and waiting[at] == pole:

@@ -3,7 +3,7 @@
 from twiceslope.checks import is_pole, is_tuple_of
 from twiceslope.errors import BadPoint, BadQuotient
 from twiceslope.numbers import is_fraction, is_number
-from twiceslope.parts import ZERO, degree_far, is_before, least_power, number_at, number_far
+from twiceslope.parts import ZERO, comes_before, degree_far, least_power, number_at, number_far
 from twiceslope.parts import quotient_product, quotient_slope, quotient_sum
 
 
@@ -27,7 +27,7 @@ def are_tails(thing):
         return False
     if not all([is_tail(tail) for tail in thing]):
         return False
-    return all([is_before(thing[k][0], thing[k + 1][0]) for k in range(len(thing) - 1)])
+    return all([comes_before(thing[k][0], thing[k + 1][0]) for k in range(len(thing) - 1)])
 
 
 def is_quotient(thing):
