@@ -6,13 +6,18 @@ import unittest
 
 import makers
 from same import SameCase, is_exact, kept, same
-from twiceslope import numbers, quotients
-from twiceslope.errors import BadNumber, BadPoint, BadQuotient
+from twiceslope import forms, numbers, points, quotients, slopes, verdict
+from twiceslope.errors import BadAnswer, BadDegree, BadEquation, BadNumber, BadPlace, BadPoint, BadQuotient
 
 ONE, ROOT = ((1, 1, 1),), ((-6, 1, 2), (1, -3, 1))
 HALF = ((1, 1, 2),)
 LINE = (((), ONE), (((-1, 2), (ROOT, HALF)), ((1, 1), ((), HALF))))
 OTHER = ((HALF,), (((1, 1), (ONE,)),))
+X, UNIT, ZERO = (((), ONE), ()), ((ONE,), ()), ((), ())
+GROWING, FALLING = (UNIT, (ONE,)), (((((1, -1, 1),),), ()), (HALF,))
+# F. Bessel's equation with 1/3, and one whose answers are e to the power of 4 roots of x, and of its negative.
+WAVE = ((((1, -1, 1),),), (((0, 1), ((), ((1, -5, 36),))),))
+ROUGH = ((), (((0, 1), (ONE, ((1, -3, 16),))),))
 
 # Each function of the interface: its parameters in their order, with arguments.
 CALLS = (
@@ -33,7 +38,43 @@ CALLS = (
     (quotients, "slope", (("quotient", LINE),)),
     (quotients, "row_at", (("quotient", LINE), ("c", (2, 3)), ("many", 4))),
     (quotients, "row_far", (("quotient", LINE), ("many", 4))),
+    (points, "orders", (("r", WAVE),)),
+    (points, "far_order", (("r", WAVE),)),
+    (points, "exponents_at", (("r", WAVE), ("c", (0, 1)), ("m", 4))),
+    (points, "exponents_far", (("r", WAVE), ("m", 4))),
+    (slopes, "choices_at", (("r", WAVE), ("c", (0, 1)))),
+    (slopes, "choices_far", (("r", WAVE),)),
+    (slopes, "lines", (("r", WAVE),)),
+    (slopes, "is_answer", (("r", UNIT), ("thing", GROWING))),
+    (slopes, "judge_slopes", (("r", WAVE),)),
+    (slopes, "slopes_hold", (("r", UNIT), ("thing", ("answer",) + FALLING))),
+    (slopes, "many_answers", (("r", UNIT),)),
+    (slopes, "answers", (("r", UNIT),)),
+    (slopes, "are_alike", (("r", UNIT), ("one", GROWING), ("other", FALLING))),
+    (forms, "row_of_products", (("r", WAVE), ("m", 2), ("u", LINE))),
+    (forms, "is_form", (("r", ROUGH), ("m", 4), ("thing", X))),
+    (forms, "bounds", (("r", WAVE), ("m", 2))),
+    (forms, "equation", (("r", ((ONE,), (((0, 1), (ONE,)),))), ("m", 2), ("j", 1))),
+    (forms, "judge_forms", (("r", ROUGH), ("m", 4))),
+    (forms, "forms_hold", (("r", ROUGH), ("m", 4), ("thing", ("forms", (X,), ())))),
+    (forms, "many_forms", (("r", ROUGH), ("m", 4))),
+    (verdict, "verdict", (("r", ROUGH),)),
+    (verdict, "judge_verdict", (("r", ROUGH),)),
+    (verdict, "verdict_holds", (("r", ROUGH), ("thing", ("square", ("odd", "far"), ("forms", (X,), ()))))),
+    (verdict, "has_answers", (("r", ROUGH),)),
+    (verdict, "exchanges", (("r", ROUGH),)),
 )
+# What the functions that tell whether something is so have to tell of these arguments, if it is not True.
+TOLD = {"are_alike": False}
+# Functions whose results hold strings or None, too.
+WORDS = ("judge_slopes", "many_answers", "judge_forms", "verdict", "judge_verdict", "exchanges")
+
+
+def has_words(result):
+    """Whether a result consists of tuples, integers, strings and None."""
+    if isinstance(result, tuple):
+        return all(has_words(part) for part in result)
+    return result is None or type(result) in (int, str)
 
 
 class CallsTest(SameCase):
@@ -56,8 +97,10 @@ class CallsTest(SameCase):
     def test_kinds_of_results(self):
         for module, name, told in CALLS:
             result = getattr(module, name)(**dict(told))
-            if name.startswith("is_"):
-                self.assertIs(result, True)
+            if name.startswith(("is_", "are_", "has_")) or name.endswith(("_hold", "_holds")):
+                self.assertIs(result, TOLD.get(name, True))
+            elif name in WORDS:
+                self.assertTrue(has_words(result))
             else:
                 self.assertTrue(is_exact(result))
 
@@ -76,12 +119,12 @@ class AnyValueTest(SameCase):
     )
 
     def test_whether(self):
-        for _, name, _ in CALLS:
-            if name.startswith("is_"):
-                call = getattr(numbers, name, None) or getattr(quotients, name)
+        for module, name, told in CALLS:
+            if told[-1][0] == "thing":
+                call, more = getattr(module, name), dict(told[:-1])
                 for thing in self.THINGS:
-                    self.assertIn(kept(call, thing), (True, False))
-                    self.assertIs(type(call(thing=thing)), bool)
+                    self.assertIn(kept(call, thing=thing, **more), (True, False))
+                    self.assertIs(type(call(*more.values(), thing)), bool)
 
     def test_raised(self):
         for thing in self.THINGS:
@@ -98,6 +141,27 @@ class AnyValueTest(SameCase):
                     self.assertBad(BadQuotient, thing, call, thing, LINE)
                     self.assertBad(BadQuotient, thing, call, one=LINE, other=thing)
             self.assertBad(BadPoint, thing, quotients.row_at, LINE, thing, 3)
+
+    def test_raised_by_each_place(self):
+        """Any value in each place of the functions of parts 3 to 6, but as `thing`, raises the place's own error."""
+        errors = {"r": BadEquation, "c": BadPoint, "m": BadDegree, "u": BadQuotient, "j": BadPlace, "one": BadAnswer,
+                  "other": BadAnswer}
+        for module, name, told in CALLS:
+            for place, worth in told if module in (points, slopes, forms, verdict) else ():
+                for thing in self.THINGS if place != "thing" else ():
+                    if place == "r" and quotients.is_equation(thing) or place == "u" and quotients.is_quotient(thing):
+                        continue
+                    given = dict(told)
+                    given[place] = thing
+                    self.assertBadCall(errors[place], thing, getattr(module, name), given)
+
+    def assertBadCall(self, error, thing, call, given):
+        with self.assertRaises(error) as caught:
+            call(**given)
+        self.assertIs(type(caught.exception), error)
+        self.assertSame(caught.exception.thing, thing)
+        with self.assertRaises(error):
+            call(*given.values())
 
     def test_results_are_arguments(self):
         source = random.Random(3)

@@ -2,6 +2,7 @@
 
 import ast
 import builtins
+import re
 import unittest
 import warnings
 from pathlib import Path
@@ -25,7 +26,10 @@ METHODS = set(
     "append clear copy count endswith extend find get index insert items join keys pop remove replace reverse "
     "setdefault split startswith strip update values bit_length __init__".split()
 )
-BARRED_WORDS = ("typing", "enum", "dataclass", "overload", "contextmanager", "namedtuple", "abstractmethod")
+BARRED_WORDS = re.compile(
+    r"\b(type|typing|typing_extensions|enum|Enum|IntEnum|StrEnum|Flag|IntFlag|Generic|Protocol|ABC|ABCMeta|namedtuple|"
+    r"NamedTuple|TypedDict|TYPE_CHECKING|abstractmethod|_wall\w*)\b|dataclass|overload|contextmanager"
+)
 BARRED_NODES = (ast.AsyncFunctionDef, ast.Await, ast.Div, ast.TryStar, ast.MatMult)
 
 
@@ -155,8 +159,7 @@ class LanguageTest(unittest.TestCase):
             if isinstance(node.op, ast.Pow):
                 self.assertIsInstance(node.right, ast.Constant, (path, node.lineno))
         for path in FILES:
-            for word in BARRED_WORDS:
-                self.assertNotIn(word, path.read_text(), path)
+            self.assertIsNone(BARRED_WORDS.search(path.read_text()), path)
 
     def test_raises(self):
         for path, node in nodes(ast.Raise):

@@ -25,16 +25,25 @@ def from_fraction(top, bottom):
 
 
 def add_term(totals, d, top, bottom):
-    """Add top / bottom times the root of d to a dict from d to pairs in lowest terms."""
+    """Add top / bottom times the root of d to a dict from d to pairs of a top and a bottom above 0."""
+    if bottom < 0:
+        top, bottom = -top, -bottom
     if d in totals:
         high, low = totals[d]
-        top, bottom = high * bottom + top * low, low * bottom
-    totals[d] = lowest(top, bottom)
+        # Bottoms alone are shortened on the way: they are smaller than tops, and many of them are alike.
+        common = bottom if low == bottom else gcd(low, bottom)
+        top, bottom = high * (bottom // common) + top * (low // common), low * (bottom // common)
+    totals[d] = (top, bottom)
 
 
 def from_totals(totals):
     """The number that such a dict stands for."""
-    return tuple([(d, totals[d][0], totals[d][1]) for d in sorted(totals) if totals[d][0] != 0])
+    found = []
+    for d in sorted(totals):
+        if totals[d][0] != 0:
+            top, bottom = lowest(totals[d][0], totals[d][1])
+            found.append((d, top, bottom))
+    return tuple(found)
 
 
 def weighted_sum(parts):
@@ -122,3 +131,13 @@ def number_inverse(number):
         prime = prime_within(below)
     _, top, bottom = below[0]
     return scaled(above, bottom, top)
+
+
+def whole_number(number):
+    """The integer that a number is; None if it is none."""
+    if number == ():
+        return 0
+    d, top, bottom = number[0]
+    if len(number) == 1 and d == 1 and bottom == 1:
+        return top
+    return None

@@ -3,7 +3,7 @@
 from twiceslope.checks import all_integers, in_lowest_terms, is_tuple_of
 from twiceslope.errors import BadNumber
 from twiceslope.exact import from_fraction, lowest
-from twiceslope.exact import number_difference, number_inverse, number_product, number_sum
+from twiceslope.exact import number_difference, number_inverse, number_product, number_sum, whole_number
 from twiceslope.factors import free_of_squares, square_split
 
 # No right number beyond the limits is asked about. So a d of this size is told to be wrong, which spares the
@@ -102,9 +102,4 @@ def root_of(top, bottom):
 def integer_of(number):
     """The integer that a number is; None if it is none."""
     check_number(number)
-    if number == ():
-        return 0
-    d, top, bottom = number[0]
-    if len(number) == 1 and d == 1 and bottom == 1:
-        return top
-    return None
+    return whole_number(number)

@@ -4,7 +4,7 @@ A row is a tuple of numbers, the last one not 0: a polynomial, or the row of a p
 """
 
 from math import comb
-from twiceslope.exact import lowest, number_sum, product_sum, scaled, weighted_sum
+from twiceslope.exact import add_product, from_totals, lowest, number_sum, product_sum, scaled, weighted_sum
 
 ZERO = ((), ())
 
@@ -23,6 +23,29 @@ def row_sum(one, other):
         one, other = other, one
     both = [number_sum(one[k], other[k]) for k in range(len(other))]
     return trimmed(both + list(one[len(other):]))
+
+
+def row_scaled(row, top, bottom):
+    """A row times a fraction other than 0."""
+    return tuple([scaled(number, top, bottom) for number in row])
+
+
+def row_product(one, other):
+    """The product of two polynomials."""
+    if one == () or other == ():
+        return ()
+    totals = [{} for _ in range(len(one) + len(other) - 1)]
+    for k in range(len(one)):
+        # A zero has no triples, so all products with it may be left out.
+        if one[k] != ():
+            for at, number in enumerate(other):
+                add_product(totals[k + at], one[k], number)
+    return trimmed([from_totals(total) for total in totals])
+
+
+def whole_slope(whole):
+    """The slope of a polynomial."""
+    return tuple([scaled(whole[k], k, 1) for k in range(1, len(whole))])
 
 
 def power(base, exponent):
@@ -194,5 +217,10 @@ def slope_row(row):
 
 def quotient_slope(quotient):
     """The slope of a quotient."""
-    whole = tuple([scaled(quotient[0][k], k, 1) for k in range(1, len(quotient[0]))])
-    return (whole, tuple([(pole, slope_row(row)) for pole, row in quotient[1]]))
+    return (whole_slope(quotient[0]), tuple([(pole, slope_row(row)) for pole, row in quotient[1]]))
+
+
+def quotient_scaled(quotient, top, bottom):
+    """A quotient times a fraction other than 0."""
+    tails = [(pole, row_scaled(row, top, bottom)) for pole, row in quotient[1]]
+    return (row_scaled(quotient[0], top, bottom), tuple(tails))
