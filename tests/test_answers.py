@@ -125,6 +125,15 @@ class IsAnswerTest(SameCase):
             self.assertTells(True, is_answer, r, (plus(t, root(c, -2)), (number(c * c), number(-2 * c), ONE)))
             self.assertTells(False, is_answer, r, (plus(t, root(c, -2)), (number(c * c + 1), number(-2 * c), ONE)))
 
+    def test_long_values(self):
+        numbers = (((1, 10 ** 39, 10 ** 39 - 1),),) * 500
+        for r in (ZERO, power(0), weber(HALF), DOUBLED):
+            for t, whole in (
+                ((numbers, ()), (ONE,)), (((), (((0, 1), numbers),)), (ONE,)), (ZERO, numbers),
+                (((), tuple(((k, 7), (ONE,)) for k in range(1, 500) if k % 7)), (ONE,)),
+            ):
+                self.assertTells(False, is_answer, r, (t, whole))
+
     def test_any_value(self):
         for r in (ZERO, power(0), weber(HALF), DOUBLED):
             for thing in makers.ODD_VALUES + ((), (ZERO,), (ZERO, (ONE,), 1), [ZERO, (ONE,)], (ZERO, [ONE]), (ZERO, ONE)):
@@ -198,6 +207,36 @@ class ManyTest(SameCase):
                 self.assertTrue(all(second.is_answer(r, answer) for answer in answers(r)))
                 found += 1
         self.assertGreater(found, 30)
+
+
+    def test_zeros_that_are_no_fractions(self):
+        # With t = a x + b + (a n - 1/2) / x + b n / x ** 2 the polynomial x * x + n divides P'' + 2 t P'.
+        source = random.Random(50)
+        for _ in range(40):
+            a, b = (Fraction(source.choice((-3, -2, -1, 1, 2, 3)), source.randint(1, 3)) for _ in range(2))
+            n = source.choice((-7, -5, -3, -2, 2, 3, 5, Fraction(1, 2), Fraction(-2, 3)))
+            t = quotient([b, a], {0: [a * n - HALF, b * n]})
+            r = plus(led_by(t), quotient([4 * a], {0: [4 * b]}))
+            answer = (t, (number(n), (), ONE))
+            self.assertTells(True, is_answer, r, answer)
+            self.assertTells(False, is_answer, r, (t, (number(n + 1), (), ONE)))
+            self.assertIn(answer, kept(answers, r))
+
+    def test_roots_of_integers(self):
+        for d in (2, -1, 6, -3):
+            told = tuple((((((d, sign, 1),),), ()), (ONE,)) for sign in (1, -1))
+            self.assertTells(told, answers, quotient([d]))
+            told = tuple((((), (((0, 1), (ONE, ((d, sign, 1),))),)), (ONE,)) for sign in (1, -1))
+            self.assertTells(told, answers, quotient([], {0: [0, 0, 0, d]}))
+            # e ** (s x) * (x - 1 / s) / x, s being a root of d.
+            trunk = ((((d, 1, 1),),), (((0, 1), (number(-1),)),))
+            self.assertSame(kept(answers, quotient([d], {0: [0, 2]}))[0], (trunk, (root_of_over(d), ONE)))
+
+
+def root_of_over(d):
+    """The negative of 1 over the root of d."""
+    worth = Fraction(-1, d)
+    return ((d, worth.numerator, worth.denominator),)
 
 
 class AlikeTest(SameCase):

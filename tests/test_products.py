@@ -19,11 +19,20 @@ DEGREES = (2, 4, 6, 8, 10, 12)
 UNIT, X = ((ONE,), ()), (((), ONE), ())
 ROOT = ((((2, 1, 1),),), ())
 ROOT_EQUATION = quotient([], {0: [1, Fraction(-3, 16)]})
+
+
+def raised_pole(c, k):
+    """1 / (x - c) ** k."""
+    return quotient([], {c: [0] * (k - 1) + [1]})
+
+
 SQUARES = (
     (power(0), UNIT, 2), (ROOT_EQUATION, X, 4),
     (square_equation({0: 1, 1: -2}, Fraction(3, 2)), quotient([], {1: [1, 1]}), 4),
     (square_equation({0: 2, Fraction(1, 2): 1}, -7), quotient([0, 0, Fraction(-1, 2), 1]), 4),
     (square_equation({-1: -3, 2: 1}, 5), quotient([], {-1: [0, 1, -3]}), 4),
+    (square_equation({-1: -3, 1: -3}, 5), product(raised_pole(-1, 3), raised_pole(1, 3)), 4),
+    (square_equation({Fraction(2, 3): -5}, 5), raised_pole(Fraction(2, 3), 5), 4),
 )
 
 
@@ -36,7 +45,7 @@ def raised(u, k):
 
 def monomial(k):
     """x ** k, k an integer."""
-    return quotient([0] * k + [1]) if k >= 0 else quotient([], {0: [0] * (-k - 1) + [1]})
+    return quotient([0] * k + [1]) if k >= 0 else raised_pole(0, -k)
 
 
 def series_row(r, m, u, c, many):

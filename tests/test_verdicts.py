@@ -7,14 +7,14 @@ from fractions import Fraction
 import makers
 import second
 import wrong
-from equations import FACES, ZERO, bessel, moved, power, quotient, scaled, square_equation
+from equations import FACES, ZERO, bessel, led_by, moved, power, quotient, scaled, square_equation
 from equations import three_points, three_points_verdict, weber, whittaker, whittaker_verdict
 from same import SameCase, kept
 from test_answers import KINDS
 from twiceslope.errors import BadEquation
-from twiceslope.forms import bounds, judge_forms
+from twiceslope.forms import bounds, judge_forms, many_forms
 from twiceslope.quotients import plus, product
-from twiceslope.slopes import judge_slopes
+from twiceslope.slopes import judge_slopes, many_answers
 from twiceslope.verdict import exchanges, has_answers, judge_verdict, verdict, verdict_holds
 
 HALF, THIRD = Fraction(1, 2), Fraction(1, 3)
@@ -141,6 +141,38 @@ class VerdictTest(SameCase):
                 self.assertBad(BadEquation, thing, call, thing)
             self.assertBad(BadEquation, thing, verdict_holds, thing, ("quotient", ("answer", ZERO, (((1, 1, 1),),))))
             self.assertBad(BadEquation, thing, verdict_holds, thing, None)
+
+
+class BothHalvesTest(SameCase):
+    """Answers and forms are found in two ways: so each tells something of what the other one may tell."""
+
+    def check(self, r):
+        many = many_answers(r)
+        # The product of two answers is a 2-form; where their quotient is one, too, so are their squares.
+        found = bounds(r, 2)
+        if found is None or found[1] <= 20:
+            self.assertIn(many_forms(r, 2), {"none": (0,), "one": (0, 1), "two": (1,), "endless": (3,)}[many], r)
+        if all((bounds(r, m) or (0, 0))[1] <= 12 for m in (4, 6, 8, 12)):
+            told = judge_verdict(r)
+            self.assertIs(verdict_holds(r, told), True, r)
+            self.assertEqual(told[0] == "quotient", many != "none", r)
+        return many
+
+    def test_drawn(self):
+        source = random.Random(66)
+        found = {}
+        for _ in range(250):
+            poles = source.sample(sorted({Fraction(a, b) for a in range(-4, 5) for b in (1, 2, 3)}), source.randint(0, 3))
+            whole = [source.randint(-2, 2) for _ in range(source.randint(0, 3))]
+            tails = {c: [Fraction(source.randint(-4, 4), source.choice((1, 1, 2, 3, 4)))] +
+                     [source.randint(-2, 2) for _ in range(source.choice((0, 0, 1, 2)))] for c in poles}
+            heads = (2, 6, 12, Fraction(3, 4), Fraction(-3, 16), Fraction(-2, 9), Fraction(5, 16), 1, 4)
+            other = {c: tails[c][:source.choice((0, 1, 1, 1, 3))] + [source.choice(heads)] for c in poles}
+            exponents = {c: source.choice((-2, -1, 1, 2, 3, 4)) for c in poles}
+            for r in (led_by(quotient(whole, tails)), quotient(whole, other), square_equation(exponents, Fraction(3, 4))):
+                many = self.check(r)
+                found[many] = found.get(many, 0) + 1
+        self.assertGreater(min(found[kind] for kind in ("none", "one", "two", "endless")), 20)
 
 
 class OthersTest(SameCase):

@@ -21,7 +21,7 @@ def less_multiple(row, factor, other):
 def lowered(column, stairs):
     """A column less multiples of those of a staircase, so that none of them has the length of its F(P)."""
     target, source = column
-    while target != () and len(target) in stairs:
+    while len(target) in stairs:
         step, origin = stairs[len(target)]
         factor = number_product(target[-1], number_inverse(step[-1]))
         target = less_multiple(target, factor, step)

@@ -49,13 +49,21 @@ def longest(columns):
     return max([len(column) for column in columns])
 
 
+def fits_room(u, bounds):
+    """Whether a quotient has only poles, and far away only a degree, as some T P has them."""
+    least, room = bounds
+    exponents = {c: e for c, e in least}
+    if any([c not in exponents or len(row) > -exponents[c] for c, row in u[1]]):
+        return False
+    return u[0] == () or len(u[0]) - 1 <= room + sum([e for _, e in least])
+
+
 def makes_form(r, m, u):
     """Whether a quotient is an m-form of an equation."""
-    poles = poles_of(r)
-    # Where r has no pole all answers have rows of powers from 0 on, and so have sums of their products.
-    if any([c not in poles for c in poles_of(u)]):
+    found = bounds_of(r, m)
+    if found is None or not fits_room(u, found):
         return False
-    powers = [(c, len(row_of_pole(u, c))) for c in poles]
+    powers = [(c, len(row_of_pole(u, c))) for c in poles_of(r)]
     fold = fold_of(r, m, [-many for _, many in powers])
     roots = roots_within(u)
     # The equation is plain, so the parts of u at unlike roots do not mix.

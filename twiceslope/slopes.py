@@ -4,7 +4,7 @@ from twiceslope.barriers import line_end, weights_bar
 from twiceslope.checks import is_tuple_of
 from twiceslope.choices import far_choices, outlines, pole_choices
 from twiceslope.errors import BadAnswer
-from twiceslope.images import image, least_frame
+from twiceslope.fits import makes_answer
 from twiceslope.numbers import is_number
 from twiceslope.parts import ZERO, number_at, poles_of, quotient_product, quotient_scaled, quotient_sum
 from twiceslope.parts import row_product, row_sum, row_scaled, whole_slope
@@ -39,8 +39,7 @@ def is_answer(r, thing):
     check_equation(r)
     if not (is_tuple_of(thing, 2) and is_quotient(thing[0]) and is_polynomial(thing[1])):
         return False
-    trunk, whole = thing
-    return whole != () and image(least_frame(r, trunk), whole) == ()
+    return makes_answer(r, thing[0], thing[1])
 
 
 def judge_slopes(r):

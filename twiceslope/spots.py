@@ -27,9 +27,7 @@ def odd_points(r):
 
 
 def root_beside(b):
-    """The root of 1 + 4 b, for a number b that is a fraction."""
-    if b == ():
-        return root_of(1, 1)
+    """The root of 1 + 4 b, for a number b that is a fraction other than 0."""
     _, top, bottom = b[0]
     return root_of(bottom + 4 * top, bottom)
 
