@@ -12,6 +12,7 @@ from same import SameCase, kept
 from test_answers import DOUBLED, KINDS, NONE
 from twiceslope.errors import BadEquation
 from twiceslope.numbers import added, times
+from twiceslope.quotients import product
 from twiceslope.slopes import judge_slopes, lines, slopes_hold
 
 HALF = Fraction(1, 2)
@@ -245,6 +246,52 @@ class WrongTest(SameCase):
             self.assertBad(BadEquation, thing, judge_slopes, thing)
             self.assertBad(BadEquation, thing, slopes_hold, thing, ("odd", "far"))
             self.assertBad(BadEquation, thing, slopes_hold, thing, None)
+
+
+class LimitsTest(SameCase):
+    """Four poles of the order 6, the degree 6 far away, two roots, counts of 12, numbers of nearly 1,000 in size."""
+
+    def equation(self, d, drawn):
+        """Each pole has the choices 3/2, with a root of 2 or of 3, and far away 6 + d is one of the two."""
+        tails = {}
+        for at, (c, square) in enumerate(((Fraction(-19, 20), 2), (Fraction(-1, 17), 3), (Fraction(3, 19), 2), (20, 3))):
+            a, b = drawn[2 * at:2 * at + 2]
+            tails[c] = [drawn[-at - 1], drawn[at], Fraction(-997, 1000), square * b * b, 2 * square * a * b, square * a * a]
+        a, b, c, e = drawn[8:12]
+        far = a * (2 * (d + 6) + 3)
+        return quotient([drawn[0], Fraction(-999, 991), c * c + 2 * b * e + far,
+                         2 * a * e + 2 * b * c, 2 * a * c + b * b, 2 * a * b, a * a], tails)
+
+    def test_large(self):
+        source = random.Random(67)
+        for d in (0, 5, 12):
+            drawn = [Fraction(source.choice((-1, 1)) * source.randint(1, 19), source.randint(1, 19)) for _ in range(12)]
+            r = self.equation(d, drawn)
+            self.assertEqual([count for _, count in lines(r)], [d] * 16)
+            told = judge_slopes(r)
+            self.assertEqual(told[0], "table")
+            self.assertIs(slopes_hold(r, told), True)
+            at = open_rows(r)[3]
+            row = told[1][at]
+            more = row + ((),) * (40 - len(row))
+            self.assertIs(slopes_hold(r, with_row(told, at, all_weights(BIG, more))), True)
+            k = [k for k, weight in enumerate(row) if weight][-1]
+            less = row[:k] + (added(row[k], ONE),) + row[k + 1:]
+            self.assertSame(slopes_hold(r, with_row(told, at, less)), second.slopes_right(r, with_row(told, at, less)))
+
+    def test_high_polynomials(self):
+        whole = (ONE,)
+        for _ in range(14):
+            whole = product((whole, ()), ((((2, 1, 1),), ONE), ()))[0]
+        root = ((), (((1, 1), (number(-13),)),))
+        zeros = (ONE,)
+        for _ in range(13):
+            zeros = product((zeros, ()), ((number(-1), ONE), ()))[0]
+        zeros = product((zeros, ()), ((((3, 1, 2),), ONE), ()))[0]
+        self.assertEqual((len(whole), len(zeros)), (15, 15))
+        self.assertTells(True, slopes_hold, ZERO, ("answer", root, zeros))
+        self.assertTells(False, slopes_hold, ZERO, ("answer", root, whole))
+        self.assertTells(False, slopes_hold, ZERO, ("answer", ZERO, whole))
 
 
 if __name__ == "__main__":
