@@ -73,6 +73,8 @@ class IsAnswerTest(SameCase):
         for r in (ZERO, power(0), weber(HALF)):
             self.assertTells(False, is_answer, r, (ZERO, ()))
             self.assertTells(False, is_answer, r, (quotient([1]), ()))
+            for k in range(-3, 4):
+                self.assertTells(False, is_answer, r, (root(0, k) if k else ZERO, ()))
 
     def test_roots(self):
         imaginary = (((), ((-1, 1, 2),)), ())

@@ -33,6 +33,9 @@ SQUARES = (
     (square_equation({-1: -3, 2: 1}, 5), quotient([], {-1: [0, 1, -3]}), 4),
     (square_equation({-1: -3, 1: -3}, 5), product(raised_pole(-1, 3), raised_pole(1, 3)), 4),
     (square_equation({Fraction(2, 3): -5}, 5), raised_pole(Fraction(2, 3), 5), 4),
+    (square_equation({2: 2, 0: -1, 1: -1}, 5), quotient([1], {0: [-4], 1: [1]}), 4),
+    # y y = x * x * (x - 1), where the pole at 0 has the order 1.
+    (led_by(quotient([], {0: [1], 1: [Fraction(1, 2)]})), quotient([0, 0, -1, 1]), 2),
 )
 
 

@@ -35,6 +35,8 @@ MANY = (
     (quotient([], {0: [0, Fraction(-2, 9)]}), 6, 3), (quotient([], {0: [0, 2]}), 2, 3), (quotient([], {0: [0, 2]}), 4, 5),
     (led_by(quotient([], {0: [-1], 2: [-1]})), 2, 3), (led_by(quotient([0, 2], {0: [2]})), 4, 0),
     (led_by(quotient([], {0: [-2], 1: [-1]})), 2, 3), (led_by(quotient([0, 2], {0: [-2], 1: [-1]})), 2, 0),
+    (led_by(quotient([], {0: [1], 1: [HALF]})), 2, 1), (led_by(quotient([], {0: [1], 1: [HALF]})), 4, 1),
+    (led_by(quotient([], {0: [1], 1: [HALF], -2: [1]})), 2, 1), (square_equation({2: 2, 0: -1, 1: -1}, 5), 4, 1),
     (whittaker(2, 3), 4, 0), (whittaker(1, HALF), 2, 0), (quotient([], {0: [0, Fraction(-1, 4)]}), 4, 1),
 )
 
@@ -194,6 +196,14 @@ class WrongTest(SameCase):
                 self.assertSame(kept(forms_hold, r, m, thing), second.forms_right(r, m, thing))
                 if thing[0] != right[0]:
                     self.bad(r, m, thing)
+
+    def test_no_forms_told(self):
+        for r, m in ROOM:
+            told = judge_forms(r, m)
+            if told[0] == "none":
+                self.bad(r, m, ("forms", (), told[1]))
+                self.bad(r, m, ("forms", (), ()))
+                self.bad(r, m, ("forms", told[1], ()))
 
     def test_room(self):
         self.assertTells(True, forms_hold, power(1), 8, ("room", -2))

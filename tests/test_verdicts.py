@@ -12,7 +12,7 @@ from equations import three_points, three_points_verdict, weber, whittaker, whit
 from same import SameCase, kept
 from test_answers import KINDS
 from twiceslope.errors import BadEquation
-from twiceslope.forms import bounds, judge_forms, many_forms
+from twiceslope.forms import bounds, forms_hold, judge_forms, many_forms, row_of_products
 from twiceslope.quotients import plus, product
 from twiceslope.slopes import judge_slopes, many_answers
 from twiceslope.verdict import exchanges, has_answers, judge_verdict, verdict, verdict_holds
@@ -156,6 +156,14 @@ class BothHalvesTest(SameCase):
             told = judge_verdict(r)
             self.assertIs(verdict_holds(r, told), True, r)
             self.assertEqual(told[0] == "quotient", many != "none", r)
+        for m in (2, 4, 6):
+            found = bounds(r, m)
+            if found is None or found[1] <= 12:
+                told = judge_forms(r, m)
+                self.assertIs(forms_hold(r, m, told), True, (r, m))
+                # The row of products is told by sums and products of quotients: not by what forms are found by.
+                for form in told[1] if told[0] == "forms" else ():
+                    self.assertEqual(row_of_products(r, m, form)[-1], ZERO)
         return many
 
     def test_drawn(self):
