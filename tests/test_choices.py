@@ -203,6 +203,13 @@ class LinesTest(SameCase):
         self.assertEqual([d for _, d in kept(lines, r)], [0, 0])
         self.assertSame(lines(r)[1][0], ((), (((0, 1), (((1, 1, 2), (2, -1, 2)),)),)))
 
+    def test_roots_that_are_left(self):
+        # Each pole has 1/2 and a half of the root of 2, or less it; only unlike signs leave an integer.
+        r = quotient([1], {0: [3, Fraction(1, 4)], 1: [5, Fraction(1, 4)]})
+        more, less = ((1, 1, 2), (2, 1, 2)), ((1, 1, 2), (2, -1, 2))
+        told = tuple((((ONE,), (((0, 1), (e,)), ((1, 1), (f,)))), 3) for e, f in ((more, less), (less, more)))
+        self.assertTells(told, lines, r)
+
     def test_trunk_without_tail(self):
         # At 0 the second choice has the number 0: the part alone is left.
         r = quotient([], {0: [0, 0, 2, 1]})

@@ -25,9 +25,7 @@ def from_fraction(top, bottom):
 
 
 def add_term(totals, d, top, bottom):
-    """Add top / bottom times the root of d to a dict from d to pairs of a top and a bottom above 0."""
-    if bottom < 0:
-        top, bottom = -top, -bottom
+    """Add top / bottom times the root of d to a dict from d to pairs (top, bottom), not in lowest terms."""
     if d in totals:
         high, low = totals[d]
         # Bottoms alone are shortened on the way: they are smaller than tops, and many of them are alike.

@@ -32,8 +32,6 @@ def row_scaled(row, top, bottom):
 
 def row_product(one, other):
     """The product of two polynomials."""
-    if one == () or other == ():
-        return ()
     totals = [{} for _ in range(len(one) + len(other) - 1)]
     for k in range(len(one)):
         # A zero has no triples, so all products with it may be left out.
