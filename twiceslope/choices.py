@@ -5,7 +5,7 @@ from twiceslope.exact import product_sum, scaled, weighted_sum, whole_number
 from twiceslope.numbers import root_of
 from twiceslope.parts import ZERO, degree_far, from_rows, number_at, number_far, poles_of, row_of_pole
 from twiceslope.parts import row_scaled, trimmed
-from twiceslope.spots import order_of, root_beside
+from twiceslope.spots import order_of, square_beside
 
 
 def root_of_fraction(number):
@@ -16,7 +16,8 @@ def root_of_fraction(number):
 
 def square_choices(b):
     """The choices where the equation is like b over a square."""
-    root = root_beside(b)
+    top, bottom = square_beside(b)
+    root = root_of(top, bottom)
     signs = (1, -1) if root != () else (1,)
     return tuple([(ZERO, weighted_sum([(ONE, 1, 2), (root, sign, 2)])) for sign in signs])
 

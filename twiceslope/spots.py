@@ -1,6 +1,7 @@
 """Orders of equations at their points, and the exponents there: nothing is checked here."""
 
-from twiceslope.numbers import root_of
+from math import isqrt
+from twiceslope.exact import lowest
 from twiceslope.parts import ZERO, degree_far, number_at, number_far, poles_of, row_of_pole
 
 # The far order that the equation of zero has: it has the exponents of those that are small far away.
@@ -26,20 +27,22 @@ def odd_points(r):
     return found
 
 
-def root_beside(b):
-    """The root of 1 + 4 b, for a number b that is a fraction other than 0."""
+def square_beside(b):
+    """The pair (top, bottom) of the fraction 1 + 4 b, for a number b that is a fraction other than 0."""
     _, top, bottom = b[0]
-    return root_of(bottom + 4 * top, bottom)
+    return lowest(bottom + 4 * top, bottom)
 
 
 def exponents_beside(b, m):
     """The exponents for m where the equation is like b over a square."""
     half = m // 2
-    root = root_beside(b)
-    if root == () or root[0][0] != 1:
+    top, bottom = square_beside(b)
+    if top <= 0:
         return (half,)
-    _, top, bottom = root[0]
-    return tuple([half + j * top // bottom for j in range(-half, half + 1) if j % bottom == 0])
+    root, low = isqrt(top), isqrt(bottom)
+    if root * root != top or low * low != bottom:
+        return (half,)
+    return tuple([half + j * root // low for j in range(-half, half + 1) if j % low == 0])
 
 
 def quarter(product):
