@@ -7,6 +7,7 @@ from math import comb
 from twiceslope.exact import add_product, from_totals, lowest, number_sum, product_sum, scaled, weighted_sum
 
 ZERO = ((), ())
+ORIGIN = (0, 1)
 
 
 def trimmed(numbers):
@@ -222,3 +223,16 @@ def quotient_scaled(quotient, top, bottom):
     """A quotient times a fraction other than 0."""
     tails = [(pole, row_scaled(row, top, bottom)) for pole, row in quotient[1]]
     return (row_scaled(quotient[0], top, bottom), tuple(tails))
+
+
+def quotient_times(quotient, number):
+    """A quotient times a number."""
+    return quotient_product(quotient, (trimmed([number]), ()))
+
+
+def multiples_sum(parts):
+    """The sum of quotient * factor for a list of pairs of a quotient and an integer other than 0."""
+    total = ZERO
+    for quotient, factor in parts:
+        total = quotient_sum(total, quotient_scaled(quotient, factor, 1))
+    return total

@@ -142,12 +142,17 @@ def check_answer(r, thing):
         raise BadAnswer(thing)
 
 
+def crossed(one, other):
+    """The quotient P Q (u - t) + P Q' - Q P' of two answers (t, P) and (u, Q)."""
+    (t, p), (u, q) = one, other
+    apart = quotient_sum(u, quotient_scaled(t, -1, 1))
+    cross = row_sum(row_product(whole_slope(q), p), row_scaled(row_product(whole_slope(p), q), -1, 1))
+    return quotient_sum(quotient_product(apart, (row_product(p, q), ())), (cross, ()))
+
+
 def alike(one, other):
     """Whether two answers have the same slope over themselves."""
-    (t, p), (u, q) = one, other
-    apart = quotient_sum(t, quotient_scaled(u, -1, 1))
-    cross = row_sum(row_product(whole_slope(p), q), row_scaled(row_product(whole_slope(q), p), -1, 1))
-    return quotient_sum(quotient_product(apart, (row_product(p, q), ())), (cross, ())) == ZERO
+    return crossed(one, other) == ZERO
 
 
 def are_alike(r, one, other):
