@@ -2,13 +2,17 @@
 
 import inspect
 import random
+import re
 import unittest
+from pathlib import Path
 
 import makers
 from same import SameCase, is_exact, kept, same
-from twiceslope import forms, numbers, points, quotients, slopes, verdict
-from twiceslope.errors import BadAnswer, BadDegree, BadEquation, BadNumber, BadPlace, BadPoint, BadQuotient
+from twiceslope import changes, forms, named, numbers, points, putin, quotients, rows, slopes, verdict
+from twiceslope.errors import BadAnswer, BadChange, BadDegree, BadEquation, BadForm, BadFraction, BadNumber, BadPlace
+from twiceslope.errors import BadPoint, BadQuotient, BadWriting
 
+DOCUMENT = Path(__file__).resolve().parent.parent.parent / "shared" / "DOC.md"
 ONE, ROOT = ((1, 1, 1),), ((-6, 1, 2), (1, -3, 1))
 HALF = ((1, 1, 2),)
 LINE = (((), ONE), (((-1, 2), (ROOT, HALF)), ((1, 1), ((), HALF))))
@@ -18,6 +22,10 @@ GROWING, FALLING = (UNIT, (ONE,)), (((((1, -1, 1),),), ()), (HALF,))
 # F. Bessel's equation with 1/3, and one whose answers are e to the power of 4 roots of x, and of its negative.
 WAVE = ((((1, -1, 1),),), (((0, 1), ((), ((1, -5, 36),))),))
 ROUGH = ((), (((0, 1), (ONE, ((1, -3, 16),))),))
+# y'' + y' / x + y = 0, and y'' + y' / x = 0 with the answer 1, which the root of x leads to.
+OVER_X = ((), (((0, 1), (ONE,)),))
+ROOT_OF_X = (((), (((0, 1), (HALF,)),)), (ROOT,))
+POWERS, INTEGRAL = (((-1, 2), ROOT), ((1, 1), HALF)), (((), ONE), (((0, 1), (ROOT,)),))
 
 # Each function of the interface: its parameters in their order, with arguments.
 CALLS = (
@@ -63,11 +71,46 @@ CALLS = (
     (verdict, "verdict_holds", (("r", ROUGH), ("thing", ("square", ("odd", "far"), ("forms", (X,), ()))))),
     (verdict, "has_answers", (("r", ROUGH),)),
     (verdict, "exchanges", (("r", ROUGH),)),
+    (putin, "writing", (("quotient", LINE),)),
+    (putin, "quotient_of", (("powers", POWERS), ("g", INTEGRAL))),
+    (putin, "product_of", (("r", UNIT), ("one", GROWING), ("other", FALLING))),
+    (putin, "stays", (("r", UNIT), ("one", GROWING), ("other", FALLING))),
+    (putin, "slopes_equation", (("r", ROUGH), ("m", 4), ("u", X))),
+    (putin, "equation_holds", (("r", UNIT), ("m", 2), ("thing", (((((1, -1, 1),),), ()), ZERO, UNIT)))),
+    (putin, "square_number", (("r", ROUGH), ("u", X))),
+    (putin, "square_equation", (("r", ROUGH), ("u", X))),
+    (rows, "answer_row", (("r", WAVE), ("c", (2, 3)), ("first", ROOT), ("second", HALF), ("many", 5))),
+    (rows, "row_of_answer", (("r", UNIT), ("answer", FALLING), ("c", (2, 3)), ("many", 5))),
+    (changes, "led", (("p", OVER_X), ("q", UNIT))),
+    (changes, "is_answer_of", (("p", OVER_X), ("q", ZERO), ("thing", (ZERO, (ROOT,))))),
+    (changes, "carried", (("p", OVER_X), ("q", ZERO), ("answer", ROOT_OF_X))),
+    (changes, "changed", (("r", ROUGH), ("change", (1, 2, 3, -1)))),
+    (changes, "changed_form", (("r", ROUGH), ("m", 4), ("u", X), ("change", (1, 2, 3, -1)))),
+    (changes, "changed_answer", (("r", UNIT), ("answer", FALLING), ("change", (1, 2, 3, -1)))),
+    (named, "power_equation", (("n", -3),)),
+    (named, "bessel", (("n", (1, 3)),)),
+    (named, "weber", (("a", (-1, 3)),)),
+    (named, "whittaker", (("k", (1, 3)), ("m", (5, 6)))),
+    (named, "three_points", (("l", (1, 2)), ("m", (1, 3)), ("n", (-7, 4)))),
+    (named, "power_verdict", (("n", -3),)),
+    (named, "bessel_verdict", (("n", (1, 3)),)),
+    (named, "weber_verdict", (("a", (-1, 3)),)),
+    (named, "whittaker_verdict", (("k", (1, 3)), ("m", (5, 6)))),
+    (named, "three_points_verdict", (("l", (1, 2)), ("m", (1, 3)), ("n", (-7, 4)))),
 )
 # What the functions that tell whether something is so have to tell of these arguments, if it is not True.
 TOLD = {"are_alike": False}
 # Functions whose results hold strings or None, too.
-WORDS = ("judge_slopes", "many_answers", "judge_forms", "verdict", "judge_verdict", "exchanges")
+WORDS = (
+    "judge_slopes", "many_answers", "judge_forms", "verdict", "judge_verdict", "exchanges", "power_verdict",
+    "bessel_verdict", "weber_verdict", "whittaker_verdict", "three_points_verdict",
+)
+# The error that each place raises, but `thing` and `many`.
+ERRORS = {
+    "r": BadEquation, "p": BadEquation, "q": BadEquation, "c": BadPoint, "m": BadDegree, "j": BadPlace,
+    "one": BadAnswer, "other": BadAnswer, "answer": BadAnswer, "first": BadNumber, "second": BadNumber,
+    "change": BadChange, "quotient": BadQuotient, "powers": BadWriting, "g": BadWriting,
+}
 
 
 def has_words(result):
@@ -75,6 +118,24 @@ def has_words(result):
     if isinstance(result, tuple):
         return all(has_words(part) for part in result)
     return result is None or type(result) in (int, str)
+
+
+def error_of(module, place):
+    """The error that a wrong value in a place raises."""
+    if module is named:
+        return BadFraction
+    if place == "u":
+        return BadQuotient if module is forms else BadForm
+    return ERRORS[place]
+
+
+def is_right(error, thing):
+    """Whether a value of the list below is right where an error is raised for wrong ones."""
+    if error is BadEquation:
+        return quotients.is_equation(thing)
+    if error is BadQuotient:
+        return quotients.is_quotient(thing)
+    return error is BadNumber and numbers.is_number(thing)
 
 
 class CallsTest(SameCase):
@@ -93,6 +154,22 @@ class CallsTest(SameCase):
     def test_defined_where_they_are_listed(self):
         for module, name, _ in CALLS:
             self.assertEqual(getattr(module, name).__module__, module.__name__)
+
+    @unittest.skipUnless(DOCUMENT.exists(), "the document is not beside the project")
+    def test_all_names_of_the_interface(self):
+        """Each function that the document lists is among these calls, with the parameters that it lists."""
+        text = DOCUMENT.read_text()
+        found = {}
+        for part in text.split("\n## twiceslope/")[1:]:
+            module = part[:part.index(".py")]
+            listed = part.split("\nExamples:")[0].split("\n# ")[0]
+            for line in listed.split("\n"):
+                if line.startswith("- `") and "class " not in line:
+                    for name, words in re.findall(r"`(\w+)\(([\w, ]*)\)`", line):
+                        if not name.startswith("Bad"):
+                            found[(module, name)] = words.split(", ")
+        told = {(module.__name__.split(".")[1], name): [word for word, _ in more] for module, name, more in CALLS}
+        self.assertEqual(found, told)
 
     def test_kinds_of_results(self):
         for module, name, told in CALLS:
@@ -143,17 +220,19 @@ class AnyValueTest(SameCase):
             self.assertBad(BadPoint, thing, quotients.row_at, LINE, thing, 3)
 
     def test_raised_by_each_place(self):
-        """Any value in each place of the functions of parts 3 to 6, but as `thing`, raises the place's own error."""
-        errors = {"r": BadEquation, "c": BadPoint, "m": BadDegree, "u": BadQuotient, "j": BadPlace, "one": BadAnswer,
-                  "other": BadAnswer}
+        """Any value in each place of the functions of parts 3 to 10, but as `thing`, raises the place's own error."""
+        count = 0
         for module, name, told in CALLS:
-            for place, worth in told if module in (points, slopes, forms, verdict) else ():
-                for thing in self.THINGS if place != "thing" else ():
-                    if place == "r" and quotients.is_equation(thing) or place == "u" and quotients.is_quotient(thing):
-                        continue
-                    given = dict(told)
-                    given[place] = thing
-                    self.assertBadCall(errors[place], thing, getattr(module, name), given)
+            for place, _ in told if module not in (numbers, quotients) else ():
+                for thing in self.THINGS if place not in ("thing", "many") else ():
+                    error = error_of(module, place)
+                    if not is_right(error, thing):
+                        given = dict(told)
+                        given[place] = thing
+                        bad = (given["powers"], given["g"]) if error is BadWriting else thing
+                        self.assertBadCall(error, bad, getattr(module, name), given)
+                        count += 1
+        self.assertGreater(count, 3000)
 
     def assertBadCall(self, error, thing, call, given):
         with self.assertRaises(error) as caught:

@@ -1,4 +1,4 @@
-"""The examples of the document's parts 1 to 6, word for word."""
+"""The examples of the document, word for word."""
 
 import unittest
 from pathlib import Path
@@ -86,6 +86,50 @@ VERDICTS = '''
 [True, False]
 '''
 
+PUT_IN = '''
+>>> from twiceslope.putin import product_of, quotient_of, stays, writing
+>>> ONE, LESS, X = ((((1, 1, 1),),), ()), ((((1, -1, 1),),), ()), (((), ((1, 1, 1),)), ())
+>>> T = (((), ((1, 2, 1),)), (((0, 1), (((1, 1, 3),), ((1, -3, 1),))),))
+>>> [writing(T), quotient_of(writing(T)[0], writing(T)[1]) == T, stays(ONE, (ONE, (((1, 1, 1),),)), (LESS, (((1, 1, 1),),))), product_of(ONE, (ONE, (((1, 1, 1),),)), (LESS, (((1, 1, 1),),)))]
+[((((0, 1), ((1, 1, 3),)),), (((), (), ((1, 1, 1),)), (((0, 1), (((1, 3, 1),),)),))), True, ((1, -2, 1),), ((((1, 1, 1),),), ())]
+>>> from twiceslope.putin import equation_holds, slopes_equation, square_equation, square_number
+>>> ONE, LESS, X = ((((1, 1, 1),),), ()), ((((1, -1, 1),),), ()), (((), ((1, 1, 1),)), ())
+>>> ROOT = ((), (((0, 1), (((1, 1, 1),), ((1, -3, 16),))),))
+>>> [slopes_equation(ROOT, 4, X)[3:], slopes_equation(ROOT, 4, X)[1], square_number(ROOT, X), square_equation(ROOT, X), equation_holds(ROOT, 4, slopes_equation(ROOT, 4, X))]
+[(((((1, -1, 1),),), ()), (((), ((1, 1, 1),)), ())), ((), (((0, 1), (((1, 1, 1),), ((1, -1, 16),))),)), ((1, 16, 1),), (((((1, 1, 2),), ((1, -8, 1),)), ()), (((), ((1, -4, 1),)), ()), (((), (), ((1, 8, 1),)), ())), True]
+'''
+
+ROWS = '''
+>>> from twiceslope.rows import answer_row, row_of_answer
+>>> ONE = ((1, 1, 1),)
+>>> [answer_row(((ONE,), ()), (0, 1), ONE, ONE, 4), answer_row((((), ONE), ()), (0, 1), ONE, (), 7)[3:], row_of_answer(((ONE, (), ONE), ()), ((((), ONE), ()), (ONE,)), (0, 1), 5)]
+[(((1, 1, 1),), ((1, 1, 1),), ((1, 1, 2),), ((1, 1, 6),)), (((1, 1, 6),), (), (), ((1, 1, 180),)), (((1, 1, 1),), (), ((1, 1, 2),), (), ((1, 1, 8),))]
+'''
+
+CHANGES = '''
+>>> from twiceslope.changes import carried, is_answer_of, led
+>>> ONE, TWO, LESS, X, ZERO = ((((1, 1, 1),),), ()), ((((1, 2, 1),),), ()), ((((1, -1, 1),),), ()), (((), ((1, 1, 1),)), ()), ((), ())
+>>> [led(((), (((0, 1), (((1, 1, 1),),)),)), ONE), led(TWO, ONE), is_answer_of(TWO, ONE, (LESS, (((1, 1, 1),),))), carried(TWO, ONE, (ZERO, (((1, 1, 1),),)))]
+[((((1, -1, 1),),), (((0, 1), ((), ((1, -1, 4),))),)), ((), ()), True, (((((1, -1, 1),),), ()), (((1, 1, 1),),))]
+>>> from twiceslope.changes import changed, changed_form
+>>> ONE, TWO, LESS, X, ZERO = ((((1, 1, 1),),), ()), ((((1, 2, 1),),), ()), ((((1, -1, 1),),), ()), (((), ((1, 1, 1),)), ()), ((), ())
+>>> ROOT = ((), (((0, 1), (((1, 1, 1),), ((1, -3, 16),))),))
+>>> [changed(X, (0, 1, 1, 0)), changed(ROOT, (2, 0, 0, 1)), changed_form(ROOT, 4, X, (2, 0, 0, 1))]
+[((), (((0, 1), ((), (), (), (), ((1, 1, 1),))),)), ((), (((0, 1), (((1, 2, 1),), ((1, -3, 16),))),)), (((), ((1, 2, 1),)), ())]
+'''
+
+NAMED = '''
+>>> from twiceslope.named import bessel, bessel_verdict, power_equation, power_verdict, weber, weber_verdict
+>>> [power_equation(1), power_verdict(1), power_verdict(-4), bessel((1, 3)), bessel_verdict((1, 3)), bessel_verdict((-5, 2)), weber((3, 2)), weber_verdict((3, 2)), weber_verdict((1, 1))]
+[(((), ((1, 1, 1),)), ()), 'nothing', 'quotient', ((((1, -1, 1),),), (((0, 1), ((), ((1, -5, 36),))),)), 'nothing', 'quotient', ((((1, 3, 2),), (), ((1, 1, 4),)), ()), 'quotient', 'nothing']
+>>> from twiceslope.named import three_points, whittaker, whittaker_verdict
+>>> [whittaker((1, 1), (1, 2)), whittaker_verdict((1, 1), (1, 2)), whittaker_verdict((1, 3), (1, 5)), three_points((1, 2), (1, 3), (1, 3))]
+[((((1, 1, 4),),), (((0, 1), (((1, -1, 1),),)),)), 'quotient', 'nothing', ((), (((0, 1), (((1, -3, 16),), ((1, -3, 16),))), ((1, 1), (((1, 3, 16),), ((1, -2, 9),)))))]
+>>> from twiceslope.named import three_points_verdict
+>>> [three_points_verdict((1, 3), (1, 3), (1, 3)), three_points_verdict((1, 2), (1, 2), (1, 7)), three_points_verdict((1, 2), (-1, 2), (3, 2)), three_points_verdict((1, 2), (1, 3), (2, 3)), three_points_verdict((1, 2), (1, 3), (1, 4)), three_points_verdict((2, 5), (2, 5), (2, 5)), three_points_verdict((1, 2), (1, 3), (1, 7))]
+['quotient', 'square', 'eight', 'four faces', 'eight faces', 'twenty faces', 'nothing']
+'''
+
 DOCUMENT = Path(__file__).resolve().parent.parent.parent / "shared" / "DOC.md"
 
 
@@ -108,11 +152,23 @@ class ExamplesTest(SameCase):
     def test_verdicts(self):
         run_text(self, VERDICTS)
 
+    def test_put_in(self):
+        run_text(self, PUT_IN)
+
+    def test_rows(self):
+        run_text(self, ROWS)
+
+    def test_changes(self):
+        run_text(self, CHANGES)
+
+    def test_named(self):
+        run_text(self, NAMED)
+
     @unittest.skipUnless(DOCUMENT.exists(), "the document is not beside the project")
     def test_words(self):
         document = DOCUMENT.read_text()
-        for text in (NUMBERS, QUOTIENTS, POINTS, SLOPES, FORMS, VERDICTS):
-            self.assertIn("```" + text + "```", document)
+        told = (NUMBERS, QUOTIENTS, POINTS, SLOPES, FORMS, VERDICTS, PUT_IN, ROWS, CHANGES, NAMED)
+        self.assertEqual("".join(told), "".join(document.split("```")[1::2]))
 
 
 if __name__ == "__main__":
